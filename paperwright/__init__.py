@@ -1,0 +1,1 @@
+"""Paperwright: an exact algebra house whose answers come with papers."""

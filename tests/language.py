@@ -243,6 +243,8 @@ def look_at_names(tree, tell):
         elif isinstance(node, ast.Name) and isinstance(node.ctx, ast.Store):
             if node.parent not in tree.body:
                 stored.add((node.id, node.lineno))
+        elif isinstance(node, ast.FunctionDef) and isinstance(node.parent, ast.FunctionDef):
+            stored.add((node.name, node.lineno))
         elif isinstance(node, ast.Attribute):
             look_at_attribute(node, tree, tell)
     for name, line in stored:

@@ -51,7 +51,7 @@ class Chain:
         return self.sign * next_height(self.height, self.last[0], drop)
 
 
-# The height divides the power without a rest but for the first one, which is 1.
+# There is never a rest here. A drop of 0 comes first alone, and then the height is still 1.
 def next_height(height, lead, drop):
     if drop == 0:
         return height

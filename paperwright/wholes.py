@@ -76,9 +76,9 @@ def whole_divided(one, other):
     return (quotient, trimmed(rest), scale)
 
 
-# Of two rows the other of which divides the one with a quotient of whole numbers: that quotient.
+# Of two rows that aren't [], the other of which divides the one with a quotient of whole numbers: that quotient.
 def whole_over(one, other):
-    room = max(len(one) - len(other) + 1, 0)
+    room = len(one) - len(other) + 1
     rest = list(one)
     quotient = [0] * room
     for place in range(room - 1, -1, -1):

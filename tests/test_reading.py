@@ -82,6 +82,7 @@ class RefusedTest(unittest.TestCase):
     def test_brackets(self):
         self.assertEqual(read("(" * 30 + "x" + ")" * 30).names(), ["x"])
         self.refuses("(" * 31 + "x" + ")" * 31, "(" * 31, "x * " + "(" * 31 + "x" + ")" * 31)
+        self.refuses("(x) * " + "(" * 31 + "x" + ")" * 31, "((x) + (y)) * " + "(" * 31 + "x" + ")" * 31)
         one_after_another = " + ".join(["(x)"] * 60)
         self.assertEqual(read(one_after_another).names(), ["x"])
         nested = "(x) * " * 20 + "(" * 30 + "x" + ")" * 30 + " * (x)" * 20

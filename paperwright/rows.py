@@ -3,7 +3,7 @@
 from paperwright.errors import NoNumber
 from paperwright.fractions import fraction, negated, plus, times
 from paperwright.numbers import raised
-from paperwright.wholes import cleared, row_over, scaled, whole_divided, whole_times
+from paperwright.wholes import cleared, row_over, scaled, whole_divided, whole_moved, whole_times, whole_value
 
 
 def row_plus(one, other):
@@ -42,12 +42,7 @@ def row_value(row, at):
         return (0, 1)
     numbers, bottom = cleared(row)
     top, part = at
-    total = numbers[-1]
-    scale = 1
-    for number in reversed(numbers[:-1]):
-        scale = scale * part
-        total = total * top + number * scale
-    return fraction(total, bottom * scale)
+    return fraction(whole_value(numbers, top, part), bottom * raised(part, len(row) - 1))
 
 
 def slope(row):
@@ -58,9 +53,5 @@ def row_moved(row, by):
     numbers, bottom = cleared(row)
     top, part = by
     last = len(numbers) - 1
-    # In y = part times x the way is the whole number top, and all numbers stay whole.
-    moved = [number * raised(part, last - place) for place, number in enumerate(numbers)]
-    for low in range(last):
-        for place in range(last - 1, low - 1, -1):
-            moved[place] = moved[place] + top * moved[place + 1]
+    moved = whole_moved(numbers, top, part)
     return [fraction(number, bottom * raised(part, last - place)) for place, number in enumerate(moved)]

@@ -5,7 +5,7 @@ there is one for each number that is told, however many steps there were.
 """
 
 from paperwright.fractions import fraction
-from paperwright.numbers import gcd
+from paperwright.numbers import gcd, raised
 
 
 def cleared(row):
@@ -32,12 +32,16 @@ def scaled(numbers, by):
     return [by * number for number in numbers]
 
 
-def whole_minus(one, other):
+def whole_plus(one, other):
     length = max(len(one), len(other))
     told = list(one) + [0] * (length - len(one))
     for place, number in enumerate(other):
-        told[place] = told[place] - number
+        told[place] = told[place] + number
     return trimmed(told)
+
+
+def whole_minus(one, other):
+    return whole_plus(one, scaled(other, -1))
 
 
 def whole_times(one, other):
@@ -49,6 +53,26 @@ def whole_times(one, other):
             for further, factor in enumerate(other):
                 told[place + further] = told[place + further] + number * factor
     return told
+
+
+# The value at top / bottom, times the bottom to the power of the row's degree: a whole number of the same sign.
+def whole_value(numbers, top, bottom):
+    total = 0
+    scale = 1
+    for number in reversed(numbers):
+        total = total * top + number * scale
+        scale = scale * bottom
+    return total
+
+
+# The row in y that comes of top / bottom + y / bottom in the place of x, times the bottom to the power of its degree.
+def whole_moved(numbers, top, bottom):
+    last = len(numbers) - 1
+    moved = [number * raised(bottom, last - place) for place, number in enumerate(numbers)]
+    for low in range(last):
+        for place in range(last - 1, low - 1, -1):
+            moved[place] = moved[place] + top * moved[place + 1]
+    return moved
 
 
 def whole_slope(numbers):
@@ -97,3 +121,12 @@ def shortened(numbers):
         if content == 1:
             return (1, list(numbers))
     return (content, [number // content for number in numbers])
+
+
+# Parts, each with how often it comes, by degree, then by the numbers from the greatest power on.
+def rising(parts):
+    return sorted(parts, key=rank)
+
+
+def rank(pair):
+    return (len(pair[0]), list(reversed(pair[0])), pair[1])

@@ -1,5 +1,6 @@
 """A plain second reckoning by Python's own fractions, and what many tests ask alike."""
 
+import copy
 import random
 from fractions import Fraction
 
@@ -95,3 +96,23 @@ def refused(test, name, call, *handed):
     with test.assertRaises(errors.HouseError) as caught:
         call(*handed)
     test.assertIs(type(caught.exception), getattr(errors, name))
+
+
+def lists_in(told):
+    """Every list that is told, however deep within tuples and lists it stands."""
+    found = [told] if isinstance(told, list) else []
+    for part in told if isinstance(told, (list, tuple)) else ():
+        found += lists_in(part)
+    return found
+
+
+def owned(test, call, *handed):
+    """Nothing handed in is changed, and no list that is told is shared with anything else."""
+    before = copy.deepcopy(handed)
+    told = call(*handed)
+    expected = copy.deepcopy(told)
+    for part in lists_in(told):
+        part.append("spoilt")
+        test.assertEqual(part.count("spoilt"), 1)
+    test.assertEqual(handed, before)
+    test.assertEqual(call(*handed), expected)

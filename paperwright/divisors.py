@@ -3,6 +3,7 @@
 from paperwright.chains import Chain
 from paperwright.errors import NoRow
 from paperwright.fractions import fraction, over
+from paperwright.moduli import apart_by, reduced
 from paperwright.numbers import raised
 from paperwright.wholes import (
     cleared, row_over, scaled, shortened, whole_minus, whole_over, whole_slope, whole_times,
@@ -77,12 +78,19 @@ def bare_parts(row):
     return parts
 
 
+# A prime, great enough to divide the resultant of two rows by mere chance alone.
+WITNESS = 2147483647
+
+
 # Of two rows without common divisors above 1 in their numbers, a greatest divisor that is such a row too.
 def whole_divisor(one, other):
     if len(one) < len(other):
         return whole_divisor(other, one)
     if other == []:
         return one
+    # What divides both has its full degree by the prime, too: so what are apart by it are apart.
+    if one[-1] % WITNESS != 0 and apart_by(reduced(one, WITNESS), reduced(other, WITNESS), WITNESS):
+        return [1]
     chain = Chain(one, other, [])
     chain.walk()
     if len(chain.last) == 1:

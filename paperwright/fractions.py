@@ -58,3 +58,7 @@ def power(one, exponent):
 
 def under(one, other):
     return one[0] * other[1] < other[0] * one[1]
+
+
+def middle(one, other):
+    return over(plus(one, other), (2, 1))

@@ -57,6 +57,13 @@ def power_by(row, exponent, other, modulus):
     return told
 
 
+# Whether the two rows have no common divisor of degree 1 or more.
+def apart_by(one, other, prime):
+    while len(other) > 1:
+        one, other = other, divided_by(one, other, prime)[1]
+    return len(other) == 1
+
+
 # Of two rows, not both [], a tuple (divisor, u, v): the greatest divisor, monic, with its cofactors.
 def greatest_by(one, other, prime):
     u, next_u = [1], []

@@ -6,7 +6,7 @@ from paperwright.divisors import bare_parts, whole_divisor
 from paperwright.errors import NoRow
 from paperwright.fractions import over, power
 from paperwright.lifting import lifted
-from paperwright.moduli import greatest_by, monic_by, reduced
+from paperwright.moduli import apart_by, monic_by, reduced
 from paperwright.numbers import is_prime, raised
 from paperwright.primeparts import prime_parts
 from paperwright.wholerows import whole_row
@@ -69,5 +69,4 @@ def good_prime(whole):
 def is_good(prime, whole):
     if not is_prime(prime) or whole[-1] % prime == 0:
         return False
-    rest = reduced(whole, prime)
-    return len(greatest_by(rest, reduced(whole_slope(whole), prime), prime)[0]) == 1
+    return apart_by(reduced(whole, prime), reduced(whole_slope(whole), prime), prime)

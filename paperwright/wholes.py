@@ -123,6 +123,11 @@ def shortened(numbers):
     return (content, [number // content for number in numbers])
 
 
+# Whether a list of whole numbers is a whole row: of degree 1 or more, the last above 0, nothing in common.
+def is_whole(numbers):
+    return len(numbers) > 1 and numbers[-1] > 0 and shortened(numbers)[0] == 1
+
+
 # Parts, each with how often it comes, by degree, then by the numbers from the greatest power on.
 def rising(parts):
     return sorted(parts, key=rank)

@@ -34,7 +34,7 @@ def order(one, other):
     grip = grip_of(one)
     other_grip = grip_of(other)
     if one[0] == other[0]:
-        return (one[1] > other[1]) - (one[1] < other[1])
+        return 0 if one[1] == other[1] else -1 if one[1] < other[1] else 1
     # Two rows that don't split have no root in common, so that the stretches part in the end.
     found = side(grip, other_grip)
     while found == 0:

@@ -77,8 +77,8 @@ def joined_stretch(grip, other, join):
 # The one root of the row that lies in the stretch.
 def root_within(row, low, high):
     parts = [part for part, often in split(row)[1]]
-    part = [part for part in parts if counted(counting_chain(part), low, high) == 1][0]
-    return (part, counted(counting_chain(part), (-root_bound(part), 1), low))
+    whole = [part for part in parts if counted(counting_chain(part), low, high) == 1][0]
+    return (whole, counted(counting_chain(whole), (-root_bound(whole), 1), low))
 
 
 # The monic row whose roots are the sums of a root of the one and a root of the other.

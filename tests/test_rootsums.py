@@ -114,6 +114,8 @@ class RootSumsTest(unittest.TestCase):
         self.assertEqual(root_over(([-1, -1, 1], 0)), ([-1, 1, 1], 0))
         self.assertEqual(root_over(([-1, -1, 1], 1)), ([-1, 1, 1], 1))
         self.assertEqual([root_over(([1, -3, 0, 1], place))[1] for place in range(3)], [0, 2, 1])
+        self.assertEqual([root_over(([-1, -3, 0, 1], place))[1] for place in range(3)], [1, 0, 2])
+        self.assertEqual([root_over(([1, 0, -10, 0, 1], place))[1] for place in range(4)], [1, 0, 3, 2])
         self.assertEqual(root_over(([1, 10 ** 30], 0)), ([10 ** 30, 1], 0))
 
     def test_1_over_0_is_refused(self):

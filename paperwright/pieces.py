@@ -53,6 +53,19 @@ def fraction_row(whole):
     return [(number, 1) for number in whole]
 
 
+# Pieces that are added up where they have the same part and how often.
+class Heap:
+    def __init__(self):
+        self.tops = {}
+
+    def gather(self, part, often, top):
+        key = (tuple(part), often)
+        self.tops[key] = row_plus(self.tops.get(key, []), top)
+
+    def told(self):
+        return [(list(key[0]), key[1], self.tops[key]) for key in self.tops if self.tops[key] != []]
+
+
 # The quotient that is the sum of the row and of pieces, of which no two have the same part and how often. Nothing
 # is left to be shortened: of each part the piece that has it most often isn't 0, and the other parts don't touch it.
 def joined_pieces(row, told):

@@ -2,8 +2,8 @@
 
 from paperwright.errors import TooFar
 from paperwright.fractions import over
-from paperwright.pieces import joined_pieces, pieces
-from paperwright.rows import row_minus, row_moved, row_plus
+from paperwright.pieces import Heap, joined_pieces, pieces
+from paperwright.rows import row_minus, row_moved
 from paperwright.wholes import whole_moved
 
 # Parts that are further from one another than this are not brought together.
@@ -29,19 +29,6 @@ def summed(quotient):
     if rest == []:
         return (True, found)
     return (False, found, joined_pieces([], rest))
-
-
-# Pieces that are added up where they have the same part and how often.
-class Heap:
-    def __init__(self):
-        self.tops = {}
-
-    def gather(self, part, often, top):
-        key = (tuple(part), often)
-        self.tops[key] = row_plus(self.tops.get(key, []), top)
-
-    def told(self):
-        return [(list(key[0]), key[1], self.tops[key]) for key in self.tops if self.tops[key] != []]
 
 
 # A tuple (first, way): the one of the firsts that is the part when it is moved this way. If there is none, the part

@@ -53,16 +53,21 @@ def side(grip, other):
 
 
 def sign_at(row, root):
-    grip = grip_of(root)
+    return gripped_sign(row, grip_of(root))
+
+
+# The sign at the root on which there is this grip. Where it isn't 0, the grip is narrowed till the row has that
+# sign all over its stretch, both ends too.
+def gripped_sign(row, grip):
     if row == []:
         return 0
     numbers = primitive(row)[0]
-    if whole_divided(numbers, root[0])[1] == []:
+    if whole_divided(numbers, grip.numbers)[1] == []:
         return 0
     return settled_sign(numbers, grip)
 
 
-# The sign at a root that is none of the row's own. The grip is narrowed till the row has that sign all over it.
+# As above, where the root is none of the row's own.
 def settled_sign(numbers, grip):
     often = 1
     found = grip.sign_of(numbers)

@@ -108,15 +108,15 @@ def paper_holds(whole, paper):
         return False
     prime, exponent, parts = paper
     lead, most = whole[-1], (len(whole) - 1) // 2
-    if not (is_prime(prime) and prime <= 9973 and lead % prime):
+    if not (prime <= 9973 and is_prime(prime) and lead % prime):
         return False
     least, limit = 1, 2 * lead * bound(whole)
     while prime ** least <= limit:
         least += 1
-    modulus = prime ** exponent
     if exponent != least or not parts:
         return False
-    if any(part[-1] != 1 or min(part) < 0 or max(part) >= modulus for part in parts):
+    modulus = prime ** exponent
+    if any(len(part) < 2 or part[-1] != 1 or min(part) < 0 or max(part) >= modulus for part in parts):
         return False
     by_prime = [rests(part, prime) for part in parts]
     if len(set(map(tuple, by_prime))) != len(parts) or not all(unsplit_by(part, prime) for part in by_prime):

@@ -269,12 +269,10 @@ def are_no_moves(wholes):
     return True
 
 
-# What is moved by a whole number keeps its last number; and the number ahead of that one tells how far it was moved.
+# The number ahead of the last one tells how far a row would have to be moved.
 def is_move(one, other):
-    if len(one) != len(other) or one[-1] != other[-1]:
-        return False
-    way, rest = divmod(other[-2] - one[-2], (len(one) - 1) * one[-1])
-    return rest == 0 and whole_moved(one, way, 1) == other
+    way = (other[-2] - one[-2]) // ((len(one) - 1) * one[-1])
+    return whole_moved(one, way, 1) == other
 
 
 # Tuples (top, bottom) with nothing shortened: what a quotient's sum or area makes.

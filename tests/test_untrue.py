@@ -74,6 +74,7 @@ class RowsTest(UntrueTest):
             [stretch(-2, -1), stretch(-1, Fraction(-1, 2)), stretch(1, 2)], [good[0], good[2], good[1]],
         ):
             self.refused(("roots", f, bad), paper)
+        self.taken(("roots", row_of(-3, 2), [stretch(1, 2)]), ([], row_of(HALF)))
         self.refused(("roots", ONE, []), (ONE, []))
         self.refused(("roots", [], []), ([], []))
         square = power(X, 2)
@@ -83,9 +84,12 @@ class RowsTest(UntrueTest):
 
 class WholenessTest(UntrueTest):
     def test_rows_that_split(self):
-        for whole in ([-1, 0, 1], [4, 0, 5, 0, 1], [0, 0, 1], [0, 1, 1], [1, 0, 1, 0, 1], [-1, 0, 0, 0, 0, 0, 1], [2, 5, 2]):
+        for whole in (
+            [-1, 0, 1], [4, 0, 5, 0, 1], [0, 0, 1], [0, 1, 1], [1, 0, 1, 0, 1], [-1, 0, 0, 0, 0, 0, 1], [2, 5, 2], [1, 5, 6],
+            [2, -3, 1], [1, -5, 6], [6, -5, 1], [-6, -1, 1], [1, -2, 3, -2, 1], [15, -11, 2],
+        ):
             self.assertIsNone(wholeness(whole))
-            if whole != [0, 0, 1]:
+            if whole not in ([0, 0, 1], [1, -2, 3, -2, 1]):
                 self.refused(("unsplit", whole), lifted_parts(whole))
         self.refused(("unsplit", [0, 0, 1]), (5, 1, [[0, 1], [0, 1]]))
         self.refused(("unsplit", [0, 0, 1]), (5, 1, [[0, 0, 1]]))
@@ -104,6 +108,18 @@ class WholenessTest(UntrueTest):
             self.refused(("unsplit", [-1, 0, 1]), (prime, exponent, [[1, 1], [prime ** exponent - 1, 1]]))
         self.refused(("unsplit", [4, 4, 1]), (3, 4, [[2, 1], [2, 1]]))
         self.refused(("unsplit", [4, 4, 1]), (29, 1, [[2, 1], [2, 1]]))
+
+    def test_parts_that_are_alike_by_the_prime(self):
+        # 17 is a square by each power of 2, and x^2 - 17 has the bound 33; but by 2 both parts are x + 1.
+        root = [number for number in range(128) if number * number % 128 == 17][0]
+        self.refused(("unsplit", [-17, 0, 1]), (2, 7, [[root, 1], [128 - root, 1]]))
+        self.taken(("unsplit", [-17, 0, 1]), wholeness([-17, 0, 1]))
+
+    def test_numbers_of_parts_are_below_the_power(self):
+        self.taken(("unsplit", [0, 1]), (2, 2, [[0, 1]]))
+        self.refused(("unsplit", [0, 1]), (2, 2, [[4, 1]]))
+        self.taken(("unsplit", [-1, 1]), (2, 2, [[3, 1]]))
+        self.refused(("unsplit", [-1, 1]), (2, 2, [[7, 1]]))
 
     def test_parts_in_any_order(self):
         for whole in ([1, 0, 0, 0, 1], [1, 0, -10, 0, 1]):
@@ -157,6 +173,7 @@ class SplitTest(UntrueTest):
         self.refused(("split", square, (1, 1), [([1, 1], 1), ([1, 1], 1)]), [wholeness([1, 1])] * 2)
         self.refused(("split", square, (1, 1), [([1, 1], 1)]), [wholeness([1, 1])])
         self.refused(("split", square, (1, 1), [([1, 1], 0), ([1, 1], 2)]), [wholeness([1, 1])] * 2)
+        self.taken(("split", row_of(-3, Fraction(2, 5)), (1, 5), [([-15, 2], 1)]), [wholeness([-15, 2])])
         self.refused(("split", ONE, (1, 1), []), [])
         self.refused(("split", [], (0, 1), []), [])
         self.refused(("split", row_of(1, 2), (1, 2), [([2, 4], 1)]), [wholeness([1, 2])])
@@ -178,8 +195,8 @@ class SplitTest(UntrueTest):
         self.refused(("parted", t, row, [found[0], found[2]]), paper)
         halves = [found[0], ([0, 1], 1, row_of(-HALF)), ([0, 1], 1, row_of(-HALF)), found[2]]
         self.refused(("parted", t, row, halves), paper)
-        whole = quotient_of(row_of(1, 1), row_of(-1, 0, 1))
-        self.assertEqual(whole, (ONE, row_of(-1, 1)))
+        # Parts of a product that has the bottom's degree, but is another one.
+        self.refused(("parted", (ONE, row_of(0, 0, 1)), [], [([1, 1], 2, ONE)]), [wholeness([1, 1])])
         two = quotient_of(ONE, row_of(-1, 0, 1))
         self.refused(("parted", two, [], [([-1, 0, 1], 1, ONE)]), [lifted_parts([-1, 0, 1])])
         # The quotient itself not in lowest terms, or its bottom not monic.
@@ -212,6 +229,9 @@ class ExpressionsTest(UntrueTest):
             [["x", (1, 1)], ("y", (2, 1))], [("x", (2, 2)), ("y", (2, 1))], [("x", 1), ("y", 2)], dict(good), tuple(good),
         ):
             self.refused(("unlike", one, other), bad)
+        for point in ([("x", (0, 1)), ("y", (2, 1))], [("x", (1, 1)), ("y", (1, 1))]):
+            self.refused(("unlike", other, one), point)
+        self.taken(("unlike", other, one), good)
         self.refused(("unlike", "x", "x"), [("x", (1, 1))])
         self.refused(("unlike", "1 / 0", "1"), [])
         self.refused(("unlike", "x / (x - x)", "1"), [("x", (1, 1))])
@@ -287,6 +307,10 @@ class TogetherTest(UntrueTest):
         self.refused(("times", a, b, c), self.paper)
         self.refused(("plus", a, b, ([-6, 0, 1], 1)), self.paper)
         self.refused(("plus", b, a, c), self.paper)
+        # In the stretch of the sum there is this root, too; but the row isn't 0 at it.
+        near = [stretch(1, 2), stretch(1, 2), stretch(1, 4)]
+        for root in (([-3, 1], 0), ([-10, 0, 1], 1)):
+            self.refused(("plus", a, b, root), (self.shown[:2] + [wholeness(root[0])], self.row, near))
         self.refused(("plus", (a[0], 0), b, c), self.paper)
         self.refused(("plus", a, b, (c[0], c[1] + 1)), self.paper)
 
@@ -369,8 +393,9 @@ class QuotientsTest(UntrueTest):
         self.refused(("no sum", row), (NOUGHT, row, []))
         self.refused(("no sum", NOUGHT), (NOUGHT, NOUGHT, []))
         # An r with a top that is too high, or parts that are told twice, or not at all, or too often.
-        high = quotient_of(row_of(1, 0, 1), X)
-        self.refused(("no sum", high), (NOUGHT, high, [([0, 1], 1, nought)]))
+        for top in (row_of(1, 1), row_of(1, 0, 1)):
+            high = quotient_of(top, X)
+            self.refused(("no sum", high), (NOUGHT, high, [([0, 1], 1, nought)]))
         square = (ONE, row_of(0, 0, 1))
         self.taken(("no sum", square), (NOUGHT, square, [([0, 1], 2, nought)]))
         self.refused(("no sum", square), (NOUGHT, square, [([0, 1], 1, nought), ([0, 1], 1, nought)]))
@@ -415,6 +440,7 @@ class QuotientsTest(UntrueTest):
         self.refused(("no area", reciprocal), (NOUGHT, reciprocal, [([0, 1], 1, wholeness([0, 1]))]))
         self.refused(("no area", (X, ONE)), (NOUGHT, (X, ONE), None))
         self.refused(("no area", NOUGHT), (NOUGHT, NOUGHT, None))
+        self.refused(("no area", (row_of(1, 1), X)), (NOUGHT, (row_of(1, 1), X), None))
         high = quotient_of(row_of(1, 0, 1), X)
         self.refused(("no area", high), (NOUGHT, high, None))
         self.taken(("no area", high), ((row_of(0, 0, HALF), ONE), reciprocal, None))
